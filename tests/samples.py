@@ -1,0 +1,59 @@
+"""Trees and objects that several tests use."""
+
+from itertools import product
+
+from turnsets.meanings import Meaning
+from turnsets.trees import Tree
+
+ROWS = [
+    ("a", "top", "folder", 1),
+    ("b", "a", "item", 2),
+    ("x", "top", "folder", 3),
+    ("c", "a", "folder", 4),
+    ("d", "c", "item", None),
+    ("s", "x", "shut", 5),
+    ("e", "top", "item", 6),
+    ("f", "c", "shut", None),
+]
+
+# No one of these is a box of any tree, nor the top.
+NO_PLACES = [
+    None, True, False, 0, 1, -1, "", "nobox", "A", "Top", "a ", [], ["a"], ["top"], (), ("a",), ("top",),
+    {}, {"a": 1}, [{"a": ["b"]}], ("a", ["b"]), (("a", 1), {}),
+]
+
+
+def sample_tree():
+    return Tree(list(ROWS))
+
+
+def small_tree():
+    """A folder in a folder, an item in each of them, an item in the top: no locked box."""
+    return Tree([
+        ("a", "top", "folder", 1),
+        ("b", "a", "folder", 2),
+        ("c", "b", "item", 3),
+        ("d", "a", "item", 4),
+        ("e", "top", "item", 5),
+    ])
+
+
+def all_meanings(tree):
+    """Returns each meaning of the tree, told by its turns."""
+    boxes = [row[0] for row in tree.rows() if row[3] is not None]
+    meanings = []
+    for default in (False, True):
+        for picks in product((False, True), repeat=len(boxes)):
+            turns = [box for box, pick in zip(boxes, picks) if pick]
+            meanings.append(Meaning(tree, default, turns))
+    return meanings
+
+
+def raised(work, *values, **named):
+    """Returns the error of the package that a call raises."""
+    from turnsets.errors import BoxError
+    try:
+        work(*values, **named)
+    except BoxError as error:
+        return error
+    raise AssertionError("no error was raised")

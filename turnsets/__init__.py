@@ -1,0 +1,1 @@
+"""Turnsets: boxes ticked within boxes, for all that will ever come into them."""
