@@ -57,3 +57,35 @@ def raised(work, *values, **named):
     except BoxError as error:
         return error
     raise AssertionError("no error was raised")
+
+
+def tiny_tree():
+    """A folder with an item, and an item in the top."""
+    return Tree([("a", "top", "folder", 1), ("b", "a", "item", 1), ("c", "top", "item", 1)])
+
+
+def places(tree):
+    return ["top"] + [row[0] for row in tree.rows()]
+
+
+def within(tree, place):
+    """The place itself and all below it."""
+    return [other for other in places(tree) if place == "top" or place in tree.way(other)]
+
+
+def random_tree(chance, many, locked=0, most=9):
+    """A tree of so many boxes; of a hundred of them so many are locked; prices up to most."""
+    rows, folders = [], ["top"]
+    for at in range(many):
+        name = "b" + chr(97 + at // 26) + chr(97 + at % 26)
+        kind = chance.choice(["folder", "folder", "item", "shut"])
+        price = None if chance.randrange(100) < locked else chance.randint(1, most)
+        rows.append((name, chance.choice(folders[-4:] + ["top"]), kind, price))
+        if kind == "folder":
+            folders.append(name)
+    return Tree(rows)
+
+
+def random_meaning(chance, tree):
+    free = [row[0] for row in tree.rows() if row[3] is not None]
+    return Meaning(tree, chance.random() < 0.5, [box for box in free if chance.random() < 0.5])

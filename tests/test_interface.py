@@ -7,8 +7,8 @@ import inspect
 import unittest
 from pathlib import Path
 
-from samples import ROWS, sample_tree
-from turnsets import errors, meanings, trees
+from samples import ROWS, sample_tree, small_tree
+from turnsets import cheap, deeds, errors, meanings, moving, trees
 
 PACKAGE = Path(__file__).resolve().parent.parent / "turnsets"
 
@@ -25,10 +25,23 @@ CLASSES = {
             "value": ["box"], "states": [], "price": [], "__contains__": None, "__len__": [], "__iter__": [],
             "__eq__": None, "__xor__": None, "__and__": None, "__or__": None, "__sub__": None, "__invert__": []}),
     },
+    "deeds": {
+        "Row": (["tree", "deeds"], {
+            "deeds": [], "maps": [], "entries": [], "least": [], "undo": [], "__call__": ["meaning"], "__len__": [],
+            "__add__": None, "__eq__": None}),
+    },
+    # How one is made is free.
+    "cheap": {"Cheapest": (None, {})},
 }
 
 FUNCTIONS = {
     "meanings": {"parting": ["one", "other"], "middle": ["meanings"]},
+    "deeds": {"idle": ["row"], "clash": ["one", "other"], "fewest_deeds": ["one", "other"],
+              "join": ["meaning", "one", "other"]},
+    "moving": {"moved": ["meaning", "box", "folder", "rule"], "back": ["meaning", "box", "folder", "rule"],
+               "unlike_moves": ["meaning", "rule", "other"]},
+    "cheap": {"cheapest": ["tree", "wish", "default"], "is_ways": ["tree", "wish", "default", "thing"],
+              "how_many": ["tree", "wish", "default"]},
 }
 
 ERRORS = [
@@ -59,7 +72,8 @@ class Names(unittest.TestCase):
             for title, (told, methods) in classes.items():
                 self.assertIn(title, defined(name, ast.ClassDef))
                 made = getattr(module(name), title)
-                self.assertEqual(parameters(made), told)
+                if told is not None:
+                    self.assertEqual(parameters(made), told)
                 for method, takes in methods.items():
                     self.assertIn(method, vars(made), title)
                     if takes is not None:
@@ -78,6 +92,10 @@ class Names(unittest.TestCase):
         meaning = meanings.Meaning(sample_tree(), True)
         for attribute in ("tree", "default", "turns"):
             self.assertIn(attribute, vars(meaning))
+        self.assertIn("tree", vars(deeds.Row(small_tree(), [])))
+        found = cheap.cheapest(small_tree(), {})
+        for attribute in ("cost", "wide", "narrow", "ways"):
+            self.assertIn(attribute, vars(found))
 
 
 class CallsByName(unittest.TestCase):
@@ -109,6 +127,34 @@ class CallsByName(unittest.TestCase):
         self.assertEqual(meanings.parting(other=meaning, one=~meaning), "top")
         self.assertEqual(meanings.middle(meanings=[meaning]), (meaning, []))
 
+    def test_deeds(self):
+        tree = small_tree()
+        row = deeds.Row(deeds=[["on", "a"]], tree=tree)
+        self.assertEqual(row, deeds.Row(tree, [("on", "a")]))
+        meaning = meanings.Meaning(tree, False)
+        self.assertEqual(row(meaning=meaning), row(meaning))
+        self.assertEqual(deeds.idle(row=row), [])
+        other = deeds.Row(tree, [("flip", "c")])
+        self.assertEqual(deeds.clash(other=other, one=row), "c")
+        behind = meanings.Meaning(tree, False, ["b"])
+        self.assertEqual(deeds.fewest_deeds(other=behind, one=meaning)(meaning), behind)
+        self.assertEqual(deeds.join(other=other, one=row, meaning=meaning), row(meaning))
+
+    def test_moving(self):
+        meaning = meanings.Meaning(small_tree(), False, ["a", "c", "e"])
+        self.assertEqual(moving.moved(rule="told", folder="top", box="c", meaning=meaning),
+                         moving.moved(meaning, "c", "top", "told"))
+        self.assertIs(moving.back(rule="told", folder="top", box="c", meaning=meaning), False)
+        self.assertEqual(moving.unlike_moves(other="meant", rule="told", meaning=meaning), [("b", "top"), ("d", "top")])
+
+    def test_cheap(self):
+        tree, wish = small_tree(), {"c": True, "d": False}
+        self.assertEqual(cheap.cheapest(default=True, wish=wish, tree=tree).wide.turns, ("a", "b"))
+        self.assertEqual(cheap.cheapest(wish=wish, tree=tree).cost, 2)
+        self.assertIs(cheap.is_ways(thing=[(2, "c", "d")], default=None, wish=wish, tree=tree), True)
+        self.assertEqual(cheap.how_many(default=False, wish=wish, tree=tree), 1)
+        self.assertEqual(cheap.how_many(wish=wish, tree=tree), 1)
+
     def test_errors(self):
         self.assertEqual(errors.BadMove(into="b", box="a").into, "b")
         self.assertEqual(errors.Barred(other="b", one="a").one, "a")
@@ -126,15 +172,25 @@ class Conventions(unittest.TestCase):
         tree.moved("a", "x")
         turns = ["e", "a", "e"]
         meanings.Meaning(tree, True, turns)
+        wish, ways = {"b": True, "a": False}, [[1, "b", "a"]]
+        cheap.cheapest(tree, wish)
+        cheap.how_many(tree, wish, True)
+        cheap.is_ways(tree, wish, True, ways)
+        clicks = [["on", "a"], ["flip", "top"]]
+        deeds.Row(small_tree(), clicks).least()
         self.assertEqual(rows, kept)
         self.assertEqual(more, ["n", "s", "item", 1])
         self.assertEqual(turns, ["e", "a", "e"])
+        self.assertEqual((list(wish.items()), ways), ([("b", True), ("a", False)], [[1, "b", "a"]]))
+        self.assertEqual(clicks, [["on", "a"], ["flip", "top"]])
 
     def test_equal_arguments_tell_the_same(self):
         one, other = sample_tree(), sample_tree()
         self.assertEqual(one.moved("a", "x").rows(), other.moved("a", "x").rows())
         self.assertEqual(list(meanings.Meaning(one, True, ["a", "x"]).states().items()),
                          list(meanings.Meaning(other, True, ("x", "a")).states().items()))
+        wish = {"b": True, "e": False, "s": True}
+        self.assertEqual(cheap.cheapest(one, wish).ways, cheap.cheapest(other, dict(wish)).ways)
 
 
 if __name__ == "__main__":

@@ -1,6 +1,7 @@
 """A part of ../shared/LANGUAGE.md that can be seen from the files; the rules' numbers stand with the tests."""
 
 import ast
+import builtins
 import re
 import unittest
 from pathlib import Path
@@ -13,6 +14,12 @@ BARRED_WORDS = [
 ]
 
 BARRED_NAMES = ["register", "mro", "elements", "open", "input", "law", "version_info", "with_traceback", "add_note"]
+
+# The builtins that the package may call, and the words that stand for values.
+LET_BUILTINS = [
+    "len", "range", "enumerate", "zip", "min", "max", "sum", "abs", "sorted", "reversed", "int", "str", "bool", "list",
+    "tuple", "dict", "set", "isinstance", "ord", "repr", "any", "all", "divmod", "iter", "next", "ValueError",
+]
 
 
 def sources():
@@ -72,6 +79,59 @@ class Language(unittest.TestCase):
                    if isinstance(row, ast.FunctionDef)]
         stored = [node.attr for name, node in nodes(ast.Attribute) if isinstance(node.ctx, ast.Store)]
         self.assertEqual(sorted(set(methods) & set(stored)), [])
+
+    def test_l3_only_plain_values_at_module_level(self):
+        for name, text in sources().items():
+            for row in ast.parse(text).body:
+                if isinstance(row, ast.Assign):
+                    ast.literal_eval(row.value)
+                    self.assertEqual([type(target) for target in row.targets], [ast.Name])
+                elif isinstance(row, ast.Expr):
+                    self.assertIsInstance(row.value, ast.Constant)
+                else:
+                    self.assertIsInstance(row, (ast.ImportFrom, ast.ClassDef, ast.FunctionDef))
+
+    def test_l4_no_decorators_and_l21_no_annotations(self):
+        for name, node in nodes(ast.FunctionDef):
+            self.assertEqual((node.decorator_list, node.returns, node.args.posonlyargs), ([], None, []), node.name)
+        for name, node in nodes(ast.arg):
+            self.assertIsNone(node.annotation, node.arg)
+        self.assertEqual(nodes(ast.AnnAssign), [])
+
+    def test_l7_no_generator_expressions_and_no_floats(self):
+        self.assertEqual(nodes(ast.GeneratorExp), [])
+        self.assertEqual(nodes(ast.Div), [])
+        self.assertEqual([node.value for name, node in nodes(ast.Constant) if isinstance(node.value, float)], [])
+
+    def test_l8_builtins(self):
+        for name, node in nodes(ast.Name):
+            if node.id in vars(builtins):
+                self.assertIn(node.id, LET_BUILTINS)
+                self.assertIsInstance(node.ctx, ast.Load)
+        for name, node in nodes(ast.arg):
+            self.assertNotIn(node.arg, vars(builtins))
+
+    def test_l15_no_local_name_is_that_of_a_class_or_an_import(self):
+        for name, text in sources().items():
+            tree = ast.parse(text)
+            bound = [row.name for row in tree.body if isinstance(row, ast.ClassDef)]
+            bound += [alias.name for row in tree.body if isinstance(row, ast.ImportFrom) for alias in row.names]
+            top = [target for row in tree.body if isinstance(row, ast.Assign) for target in row.targets]
+            local = [node.arg for node in ast.walk(tree) if isinstance(node, ast.arg)]
+            local += [node.id for node in ast.walk(tree) if isinstance(node, ast.Name)
+                      and isinstance(node.ctx, ast.Store) and node not in top]
+            self.assertEqual(sorted(set(local) & set(bound)), [], name)
+
+    def test_l20_is_only_with_none_and_truths(self):
+        for name, node in nodes(ast.Compare):
+            for sign, right in zip(node.ops, node.comparators):
+                if isinstance(sign, (ast.Is, ast.IsNot)):
+                    self.assertTrue(isinstance(right, ast.Constant) and right.value in (None, True, False), name)
+
+    def test_l27_no_percent_sign_in_a_string(self):
+        for name, node in nodes(ast.Constant):
+            if isinstance(node.value, str):
+                self.assertNotIn("%", node.value)
 
 
 if __name__ == "__main__":

@@ -57,10 +57,15 @@ def check_box(tree, thing):
         raise NoBox(thing)
 
 
+def is_place(tree, thing):
+    """Tells of any object whether it is a box of the tree or the top."""
+    return thing == TOP or thing in tree
+
+
 def check_place(tree, thing):
     """Raises NoBox for any object that is neither a box of the tree nor the top."""
-    if thing != TOP:
-        check_box(tree, thing)
+    if not is_place(tree, thing):
+        raise NoBox(thing)
 
 
 class Tree:
