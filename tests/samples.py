@@ -89,3 +89,32 @@ def random_tree(chance, many, locked=0, most=9):
 def random_meaning(chance, tree):
     free = [row[0] for row in tree.rows() if row[3] is not None]
     return Meaning(tree, chance.random() < 0.5, [box for box in free if chance.random() < 0.5])
+
+
+def example_tree():
+    return Tree([("a", "top", "folder", 1), ("b", "a", "item", 1), ("c", "a", "item", 1), ("d", "a", "item", 1)])
+
+
+def keeping(meanings, wish, default):
+    return [meaning for meaning in meanings if default in (None, meaning.default)
+            and all(meaning.value(place) == value for place, value in wish.items())]
+
+
+def ends_of(wish, default):
+    return dict(wish) if default is None else {**wish, "top": default}
+
+
+def told_ways(tree, wish, default, ways):
+    """Tells whether the ways are such a list as [25] says, told by its words."""
+    ends, borne = ends_of(wish, default), {}
+    for amount, one, other in ways:
+        if amount < 1 or ends[one] is not True or ends[other] is not False:
+            return False
+        for box in set(tree.way(one)) ^ set(tree.way(other)):
+            borne[box] = borne.get(box, 0) + amount
+    return all(tree.price(box) is None or many <= tree.price(box) for box, many in borne.items())
+
+
+def random_wish(chance, tree, share):
+    return {place: chance.random() < 0.5 for place in chance.sample(places(tree), len(places(tree)))
+            if chance.random() < share}

@@ -7,8 +7,8 @@ import inspect
 import unittest
 from pathlib import Path
 
-from samples import ROWS, sample_tree, small_tree
-from turnsets import cheap, deeds, errors, meanings, moving, trees
+from samples import ROWS, raised, sample_tree, small_tree
+from turnsets import cheap, deeds, errors, live, meanings, moving, seen, showing, texts, trees
 
 PACKAGE = Path(__file__).resolve().parent.parent / "turnsets"
 
@@ -32,6 +32,16 @@ CLASSES = {
     },
     # How one is made is free.
     "cheap": {"Cheapest": (None, {})},
+    "showing": {
+        "Counts": (["tree", "ranges"], {
+            "on": ["meaning", "box"], "off": ["meaning", "box"], "shows": ["meaning", "box"],
+            "asks": ["meaning", "box"]}),
+    },
+    "live": {
+        "Live": (["meaning"], {
+            "meaning": [], "add": ["row"], "drop": ["box"], "move": ["box", "folder", "rule"], "do": ["word", "box"],
+            "turn": ["box"], "on": ["box"], "undo": [], "again": [], "trial": ["work"]}),
+    },
 }
 
 FUNCTIONS = {
@@ -42,6 +52,11 @@ FUNCTIONS = {
                "unlike_moves": ["meaning", "rule", "other"]},
     "cheap": {"cheapest": ["tree", "wish", "default"], "is_ways": ["tree", "wish", "default", "thing"],
               "how_many": ["tree", "wish", "default"]},
+    "seen": {"sure": ["tree", "seen", "most", "default"], "why_sure": ["tree", "seen", "most", "box", "default"],
+             "fewest_looks": ["tree", "seen", "most", "default"]},
+    "showing": {"click": ["counts", "meaning", "box", "table", "seen"],
+                "unseen": ["counts", "meaning", "box", "table", "seen"]},
+    "texts": {"write": ["meaning"], "read": ["tree", "lines"], "listed": ["tree", "lines"]},
 }
 
 ERRORS = [
@@ -96,6 +111,12 @@ class Names(unittest.TestCase):
         found = cheap.cheapest(small_tree(), {})
         for attribute in ("cost", "wide", "narrow", "ways"):
             self.assertIn(attribute, vars(found))
+        self.assertIn("tree", vars(showing.Counts(small_tree())))
+
+    def test_each_file_of_the_interface_is_there(self):
+        files = [path.stem for path in PACKAGE.glob("*.py") if path.stem != "__init__"]
+        self.assertEqual(sorted(files), ["cheap", "deeds", "errors", "live", "meanings", "moving", "seen", "showing",
+                                         "texts", "trees"])
 
 
 class CallsByName(unittest.TestCase):
@@ -155,6 +176,48 @@ class CallsByName(unittest.TestCase):
         self.assertEqual(cheap.how_many(default=False, wish=wish, tree=tree), 1)
         self.assertEqual(cheap.how_many(wish=wish, tree=tree), 1)
 
+    def test_seen(self):
+        tree, wish = small_tree(), {"c": True, "d": False}
+        self.assertEqual(seen.sure(default=True, most=3, seen=wish, tree=tree), seen.sure(tree, wish, 3, True))
+        self.assertEqual(seen.sure(most=2, seen=wish, tree=tree), seen.sure(tree, wish, 2))
+        self.assertEqual(seen.why_sure(default=True, box="c", most=3, seen=wish, tree=tree), ("c", "c"))
+        self.assertIsNone(seen.why_sure(box="top", most=10 ** 6, seen=wish, tree=tree))
+        self.assertEqual(seen.fewest_looks(default=True, most=3, seen=wish, tree=tree), [()])
+        self.assertEqual(seen.fewest_looks(most=2, seen=wish, tree=tree), seen.fewest_looks(tree, wish, 2, None))
+
+    def test_showing(self):
+        tree = sample_tree()
+        meaning, counts = meanings.Meaning(tree, False, ["x"]), showing.Counts(ranges={"s": (1, 2)}, tree=tree)
+        self.assertEqual(counts.on(box="x", meaning=meaning), (1, 2))
+        self.assertEqual(counts.off(box="top", meaning=meaning), (3, None))
+        self.assertEqual(counts.shows(box="top", meaning=meaning), ["part"])
+        self.assertEqual(counts.asks(box="f", meaning=meaning), ["f"])
+        self.assertEqual(showing.Counts(tree=tree).asks(meaning, "x"), ["s"])
+        table = {"on": "off", "off": "flip", "part": "keep", "none": "on"}
+        self.assertEqual(showing.click(table=table, box="x", meaning=meaning, counts=counts),
+                         meanings.Meaning(tree, False))
+        self.assertEqual(showing.click(seen=["e"], table=table, box="top", meaning=meaning, counts=counts).turns,
+                         ("x", "e"))
+        self.assertEqual(showing.unseen(seen=[], table=table, box="x", meaning=meaning, counts=counts), ["x", "s"])
+
+    def test_texts(self):
+        tree = small_tree()
+        self.assertEqual(texts.write(meaning=meanings.Meaning(tree, True, ["b"])), ["all", "but a/b"])
+        self.assertEqual(texts.read(lines=["none", "but a"], tree=tree), meanings.Meaning(tree, False, ["a"]))
+        self.assertEqual(texts.listed(lines=["+ a"], tree=tree), meanings.Meaning(tree, False, ["a"]))
+
+    def test_live(self):
+        one = live.Live(meaning=meanings.Meaning(small_tree(), False))
+        one.add(row=("n", "top", "item", 1))
+        one.drop(box="d")
+        one.move(rule="told", folder="top", box="b")
+        one.do(box="a", word="on")
+        one.turn(box="c")
+        self.assertEqual(one.on(box="top"), 1)
+        self.assertEqual(one.trial(work=lambda same: same.meaning().turns), ("a", "c"))
+        self.assertEqual([one.undo() for times in range(6)], [True] * 5 + [False])
+        self.assertEqual([one.again() for times in range(6)], [True] * 5 + [False])
+
     def test_errors(self):
         self.assertEqual(errors.BadMove(into="b", box="a").into, "b")
         self.assertEqual(errors.Barred(other="b", one="a").one, "a")
@@ -176,6 +239,20 @@ class Conventions(unittest.TestCase):
         cheap.cheapest(tree, wish)
         cheap.how_many(tree, wish, True)
         cheap.is_ways(tree, wish, True, ways)
+        seen.sure(tree, wish, 40)
+        seen.why_sure(tree, wish, 40, "e")
+        seen.fewest_looks(tree, wish, 40)
+        ranges, table, items = {"s": [1, 2]}, dict.fromkeys(("on", "off", "part", "none"), "flip"), ["e", "b", "e"]
+        counts, meaning = showing.Counts(tree, ranges), meanings.Meaning(tree, False, turns)
+        showing.click(counts, meaning, "top", table, items)
+        showing.unseen(counts, meaning, "top", table, items)
+        lines = texts.write(meaning)
+        texts.read(tree, lines)
+        texts.listed(small_tree(), ["+ a"])
+        live.Live(meaning).move("a", "x", "told")
+        self.assertEqual((ranges, items, lines), ({"s": [1, 2]}, ["e", "b", "e"], ["none", "but a", "but e"]))
+        self.assertEqual(table, dict.fromkeys(("on", "off", "part", "none"), "flip"))
+        self.assertEqual(meaning, meanings.Meaning(sample_tree(), False, turns))
         clicks = [["on", "a"], ["flip", "top"]]
         deeds.Row(small_tree(), clicks).least()
         self.assertEqual(rows, kept)
@@ -191,6 +268,37 @@ class Conventions(unittest.TestCase):
                          list(meanings.Meaning(other, True, ("x", "a")).states().items()))
         wish = {"b": True, "e": False, "s": True}
         self.assertEqual(cheap.cheapest(one, wish).ways, cheap.cheapest(other, dict(wish)).ways)
+        for place in sorted(one.kinds) + ["top"]:
+            self.assertEqual(seen.why_sure(one, wish, 9, place, True), seen.why_sure(other, dict(wish), 9, place, True))
+
+    def test_lists_and_tuples_may_stand_for_one_another(self):
+        tree = small_tree()
+        one, other = meanings.Meaning(tree, False, ("a", "c")), meanings.Meaning(tree, False, ["a", "c"])
+        self.assertEqual(one, other)
+        self.assertEqual(meanings.middle((one, other)), (one, []))
+        shut = trees.Tree((["s", "top", "shut", 1], ("i", "top", "item", 1)))
+        self.assertEqual(showing.Counts(shut, {"s": [1, 2]}).on(meanings.Meaning(shut, True), "top"), (2, 3))
+        table = dict.fromkeys(("on", "off", "part", "none"), "flip")
+        self.assertEqual(showing.click(showing.Counts(tree), one, "a", table, ("c", "d")),
+                         showing.click(showing.Counts(tree), one, "a", table, ["c", "d"]))
+        self.assertEqual(texts.read(tree, ("none", "but a")), texts.read(tree, ["none", "but a"]))
+        self.assertEqual(texts.listed(tree, ("+ a",)), texts.listed(tree, ["+ a"]))
+        here = live.Live(one)
+        here.add(["n", "top", "item", 1])
+        self.assertEqual(here.meaning().tree.rows()[-1], ("n", "top", "item", 1))
+
+    def test_a_call_that_raises_changes_nothing(self):
+        tree = small_tree()
+        meaning, counts = meanings.Meaning(tree, False, ["a"]), showing.Counts(tree)
+        table, wish, lines = {"on": "flip"}, {"a": True, "c": 1}, ["none", "but a", "nope"]
+        for work, *values in ((seen.sure, tree, wish, 1), (seen.why_sure, tree, wish, 1, "a"),
+                              (seen.fewest_looks, tree, wish, 1), (showing.click, counts, meaning, "a", table),
+                              (showing.unseen, counts, meaning, "a", table, ["c"]), (texts.read, tree, lines),
+                              (texts.listed, tree, lines), (counts.on, meaning, "nope")):
+            raised(work, *values)
+        self.assertEqual((table, wish, lines), ({"on": "flip"}, {"a": True, "c": 1}, ["none", "but a", "nope"]))
+        self.assertEqual((tree, meaning), (small_tree(), meanings.Meaning(small_tree(), False, ["a"])))
+        self.assertEqual(counts.on(meaning, "top"), (2, 2))
 
 
 if __name__ == "__main__":

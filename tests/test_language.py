@@ -21,6 +21,12 @@ LET_BUILTINS = [
     "tuple", "dict", "set", "isinstance", "ord", "repr", "any", "all", "divmod", "iter", "next", "ValueError",
 ]
 
+# The methods of builtin values that the package calls, all of them in L25.
+LET_METHODS = [
+    "append", "count", "extend", "get", "index", "isalpha", "isascii", "islower", "items", "join", "pop", "setdefault",
+    "update", "values",
+]
+
 
 def sources():
     return {path.name: path.read_text(encoding="utf-8") for path in sorted(PACKAGE.glob("*.py"))}
@@ -127,6 +133,36 @@ class Language(unittest.TestCase):
             for sign, right in zip(node.ops, node.comparators):
                 if isinstance(sign, (ast.Is, ast.IsNot)):
                     self.assertTrue(isinstance(right, ast.Constant) and right.value in (None, True, False), name)
+
+    def test_l19_only_own_errors_are_caught(self):
+        own = [row.name for row in ast.parse(sources()["errors.py"]).body if isinstance(row, ast.ClassDef)]
+        for name, node in nodes(ast.ExceptHandler):
+            self.assertIsInstance(node.type, ast.Name)
+            self.assertIn(node.type.id, own)
+
+    def test_l6_only_names_and_attributes_are_assigned_in_a_finally(self):
+        for name, node in nodes(ast.Try):
+            for row in node.finalbody:
+                self.assertIsInstance(row, ast.Assign)
+                self.assertEqual(len(row.targets), 1)
+                for part in ast.walk(row):
+                    self.assertIsInstance(part, (ast.Assign, ast.Tuple, ast.Name, ast.Attribute, ast.expr_context))
+
+    def test_l25_and_l26_methods(self):
+        own = [row.name for name, node in nodes(ast.ClassDef) for row in node.body if isinstance(row, ast.FunctionDef)]
+        for name, node in nodes(ast.Call):
+            if isinstance(node.func, ast.Attribute):
+                self.assertIn(node.func.attr, own + LET_METHODS, name)
+        for method in own:
+            if not method.startswith("__"):
+                for kind in (str, int, list, dict, bytes):
+                    self.assertFalse(hasattr(kind, method), method)
+
+    def test_l24_sets_stand_in_len_only(self):
+        counted = [node.args[0] for name, node in nodes(ast.Call)
+                   if isinstance(node.func, ast.Name) and node.func.id == "len"]
+        for name, node in nodes((ast.SetComp, ast.Set)):
+            self.assertIn(ast.dump(node), [ast.dump(one) for one in counted], name)
 
     def test_l27_no_percent_sign_in_a_string(self):
         for name, node in nodes(ast.Constant):

@@ -2,7 +2,7 @@
 
 from turnsets.errors import BadDefault, BadWish, Barred
 from turnsets.meanings import with_values
-from turnsets.trees import TOP, is_place
+from turnsets.trees import TOP, is_number, is_place
 
 VALUES = (False, True)
 
@@ -166,10 +166,8 @@ def is_way(ends, thing):
     if not isinstance(thing, (list, tuple)) or len(thing) != 3:
         return False
     amount, one, other = thing
-    if not isinstance(amount, int) or isinstance(amount, bool) or amount < 1:
-        return False
     # Any object may stand for an end, and not every one can be looked up in a dict.
-    if not isinstance(one, str) or not isinstance(other, str):
+    if not is_number(amount, 1) or not isinstance(one, str) or not isinstance(other, str):
         return False
     return ends.get(one) is True and ends.get(other) is False
 

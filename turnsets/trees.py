@@ -4,6 +4,7 @@ from turnsets.errors import BadMove, BadRow, NoBox, NotShut
 
 TOP = "top"
 FOLDER = "folder"
+ITEM = "item"
 SHUT = "shut"
 KINDS = ("folder", "item", "shut")
 LONGEST_NAME = 8
@@ -16,11 +17,14 @@ def is_name(thing):
     return thing.isascii() and thing.isalpha() and thing.islower()
 
 
+def is_number(thing, least):
+    """Tells of any object whether it is an integer from the least one on."""
+    return isinstance(thing, int) and not isinstance(thing, bool) and thing >= least
+
+
 def is_price(thing):
     """Tells of any object whether it is a price, or None, which stands for locked."""
-    if thing is None:
-        return True
-    return isinstance(thing, int) and not isinstance(thing, bool) and thing >= 1
+    return thing is None or is_number(thing, 1)
 
 
 def is_row(thing, taken, homes):
